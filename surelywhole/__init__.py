@@ -1,0 +1,1 @@
+"""Surelywhole: complete answers from an incomplete store."""
