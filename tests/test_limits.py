@@ -100,9 +100,10 @@ class BeyondTheLimits(unittest.TestCase):
         schema = Schema(Table("p", 1), Table("q", 1))
         world = [("p", f"a{at}") for at in range(40)]
         partners = [("p", f"?x{at}") for at in range(5)]
-        promise = Promise(schema, ("p", "?x"), *partners, ("q", "?y"))
-        self.assertIs(promise.kept(world, []), True)
-        self.assertIs(promise.kept([*world, ("q", "a")], world[1:]), False)
+        for mixed in ((*partners, ("q", "?y")), (("q", "?y"), *partners)):
+            promise = Promise(schema, ("p", "?x"), *mixed)
+            self.assertIs(promise.kept(world, []), True)
+            self.assertIs(promise.kept([*world, ("q", "a")], world[1:]), False)
 
     def test_no_tables_and_no_columns(self):
         self.assertIs(Schema().holds([]), True)
