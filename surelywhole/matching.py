@@ -33,15 +33,26 @@ def fewest(choices):
     return best
 
 
-def can_grow(match, patterns, parts, among):
-    """Return whether the match grows to turn each of the patterns into one of the parts."""
+def full_match(match, patterns, parts, among):
+    """Return the match grown so that it turns each pattern into one of the parts, or None if it cannot."""
     if not patterns:
-        return True
+        return match
     choices = [fits(pattern, parts, among, match) for pattern in patterns]
     # Where there is the least to try, a match that cannot be is given up the soonest.
     at = fewest(choices)
     rest = patterns[:at] + patterns[at + 1:]
     for way in choices[at]:
-        if can_grow(way, rest, parts, among):
-            return True
-    return False
+        found = full_match(way, rest, parts, among)
+        if found is not None:
+            return found
+    return None
+
+
+def turned(terms, match):
+    """Return what the match turns the terms into."""
+    return tuple([match.get(term, term) for term in terms])
+
+
+def numbers(patterns, parts, match):
+    """Return the numbers of the parts into which the match turns the patterns."""
+    return tuple([parts.index(turned(pattern, match)) for pattern in patterns])

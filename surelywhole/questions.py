@@ -1,7 +1,7 @@
 """Questions, and promises of what a store has."""
 
 from surelywhole.errors import BadPart, Unbound
-from surelywhole.matching import can_grow, fit
+from surelywhole.matching import fit, full_match
 from surelywhole.steps import is_covered
 from surelywhole.terms import ascending, is_term, is_variable, with_ascending
 
@@ -55,10 +55,14 @@ class Promise:
             and self.among == other.among
         )
 
+    def match_for(self, row, world):
+        """Return a match in the world that turns the part into the row, or None."""
+        match = fit(self.part, row, self.among, {})
+        return None if match is None else full_match(match, self.partners, world, self.among)
+
     def says(self, row, world):
         """Return whether a match in the world turns the part into the row."""
-        match = fit(self.part, row, self.among, {})
-        return match is not None and can_grow(match, self.partners, world, self.among)
+        return self.match_for(row, world) is not None
 
     def kept(self, world, store):
         """Return whether every row that the promise says is in the store."""

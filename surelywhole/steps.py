@@ -4,8 +4,8 @@ A state is the parts and the head that the steps before have left. A step is
 written like a node of a derivation without the nodes below it.
 """
 
-from surelywhole.matching import can_grow, fit
-from surelywhole.terms import ascending, is_variable, replaced
+from surelywhole.matching import fit, full_match
+from surelywhole.terms import ascending, is_variable, replaced, unused
 
 
 def next_step(question, parts):
@@ -46,8 +46,8 @@ def partner_step(question, parts):
     i, k = lacking[0]
     column, name, other = question.schema.table(parts[i][0]).refers[k]
     width = question.schema.table(name).width
-    unused = unused_variables(width, [*question.parts, *parts])
-    terms = [parts[i][column + 1] if at == other else unused[at] for at in range(width)]
+    variables = unused("?n", width, [*question.parts, *parts])
+    terms = [parts[i][column + 1] if at == other else variables[at] for at in range(width)]
     return ("partner", i, k, (name, *terms))
 
 
@@ -59,18 +59,6 @@ def list_step(schema, parts):
             if is_variable(part[column + 1]):
                 return ("choose", part[column + 1], lists[column])
     return None
-
-
-def unused_variables(many, parts):
-    """Return different variables that are in none of the parts."""
-    found = []
-    number = 0
-    while len(found) < many:
-        variable = f"?n{number}"
-        if not any([variable in part for part in parts]):
-            found.append(variable)
-        number += 1
-    return found
 
 
 def states_after(step, parts, head):
@@ -96,7 +84,7 @@ def state_with(parts, head, variable, term):
 def gives(question, parts, head):
     """Return whether a match of the question in the parts turns its head into this head."""
     match = fit(question.head, head, question.among, {})
-    return match is not None and can_grow(match, question.parts, parts, question.among)
+    return match is not None and full_match(match, question.parts, parts, question.among) is not None
 
 
 def is_covered(question, other, parts, head):
@@ -111,3 +99,15 @@ def is_covered(question, other, parts, head):
         if not is_covered(question, other, parts_after, head_after):
             return False
     return True
+
+
+def leaves(question, parts, head):
+    """Return the states at the ends of all steps from this state."""
+    step = next_step(question, parts)
+    if step is None:
+        return [(parts, head)]
+    return [
+        leaf
+        for parts_after, head_after in states_after(step, parts, head)
+        for leaf in leaves(question, parts_after, head_after)
+    ]

@@ -22,10 +22,14 @@ def replaced(terms, variable, term):
     return tuple([term if item == variable else item for item in terms])
 
 
+def once(things):
+    """Return the strings or tuples in a list, equal ones once."""
+    return list({thing: True for thing in things})
+
+
 def ascending(words):
     """Return the words as an ascending tuple, equal ones once."""
-    once = {word: True for word in words}
-    return tuple(sorted([str(word) for word in once]))
+    return tuple(sorted([str(word) for word in once(words)]))
 
 
 def with_ascending(values):
@@ -33,3 +37,16 @@ def with_ascending(values):
     if values is None:
         return {}
     return {at: ascending(values[at]) for at in values}
+
+
+def unused(prefix, many, words):
+    """Return different words that begin with the prefix and are in none of the lists of words."""
+    taken = {word: True for some in words for word in some}
+    found = []
+    number = 0
+    while len(found) < many:
+        word = f"{prefix}{number}"
+        if word not in taken:
+            found.append(word)
+        number += 1
+    return found

@@ -4,7 +4,10 @@ Nothing here uses the program's own search: every replacement of variables is
 tried, and a world is checked row by row.
 """
 
+from collections import Counter
 from itertools import combinations, product
+
+from surelywhole.questions import Question
 
 
 def variables_of(parts):
@@ -160,3 +163,66 @@ def is_within(tables, question, other):
         if answer not in answers(other, world):
             return False
     return True
+
+
+def tally(question, rows):
+    """How many matches give each answer."""
+    found = matches(question.parts, question.among, rows)
+    return Counter(replace(question.head, match) for match in found)
+
+
+def in_order(question, rows):
+    """The answers in ascending order, with duplicates as often as there are matches."""
+    counts = tally(question, rows)
+    return sorted(counts.elements() if question.duplicates else counts)
+
+
+def store_of(promises, world):
+    """The rows that the promises say: the least store that keeps them."""
+    return sorted(row for row in set(world) if any(row in said(promise, world) for promise in promises))
+
+
+def differs(question, world, store):
+    """Whether the world and the store answer the question differently."""
+    return in_order(question, world) != in_order(question, store)
+
+
+def breaks(promise, world, store):
+    """Whether the promise says a row that is not stored."""
+    return not said(promise, world) <= set(store)
+
+
+def constants_of(tables, *owners):
+    """All values in the tables' lists and in the questions and promises."""
+    found = {value for table in tables.values() for values in table.lists.values() for value in values}
+    for owner in owners:
+        parts = owner.parts if hasattr(owner, "parts") else (owner.part, *owner.partners)
+        found |= values_of(parts) | {value for values in owner.among.values() for value in values}
+        found |= {term for term in getattr(owner, "head", ()) if not term.startswith("?")}
+    return tuple(sorted(found))
+
+
+def smallest_difference(tables, promises, question):
+    """The fewest rows of a world whose least store answers the question differently, or None.
+
+    An answer rests on one match. So a smallest world has only the rows of that
+    match and those to which references lead on, and only such worlds are tried.
+    """
+    values = constants_of(tables, question, *promises)
+    sizes = [
+        len(world) for _, world in least_worlds(tables, question, values)
+        if differs(question, world, store_of(promises, world))
+    ]
+    return min(sizes, default=None)
+
+
+def smallest_parting(tables, schema, promises, others):
+    """The fewest rows of a world whose least store keeps the others and not the promises, or None."""
+    values = constants_of(tables, *promises, *others)
+    sizes = []
+    for promise in promises:
+        question = Question(schema, (), promise.part, *promise.partners, among=promise.among)
+        for _, world in least_worlds(tables, question, values):
+            if breaks(promise, world, store_of(others, world)):
+                sizes.append(len(world))
+    return min(sizes, default=None)

@@ -15,7 +15,7 @@ FILES = sorted(PACKAGE.rglob("*.py"))
 BUILTINS = set(
     "len range enumerate zip min max sum abs sorted reversed int str bool list tuple dict set isinstance ord repr "
     "any all divmod Exception ValueError TypeError KeyError IndexError LookupError ZeroDivisionError "
-    "RuntimeError NotImplementedError NotImplemented super property".split()
+    "RuntimeError NotImplementedError NotImplemented super property iter".split()
 )
 METHODS = set(
     "append clear copy count endswith extend find get index insert isalnum isalpha isdigit islower isspace isupper "
@@ -37,6 +37,8 @@ NODES = (
     ast.Lambda, ast.Yield, ast.YieldFrom, ast.Import,
 )
 PLAIN = ("int", "len", "ord", "str", "repr")
+CHANGING = ("append", "setdefault", "extend", "insert", "pop", "remove", "reverse", "update", "clear")
+OPERATORS = ("__le__", "__and__", "__or__", "__contains__", "__getitem__", "__eq__", "__iter__", "__len__")
 
 
 class Rules(unittest.TestCase):
@@ -65,7 +67,9 @@ class Rules(unittest.TestCase):
         uses = {path.stem: set() for path in FILES}
         for path, tree in self.trees.items():
             for node in ast.walk(tree):
-                if isinstance(node, ast.ImportFrom):
+                if isinstance(node, ast.ImportFrom) and node.module == "itertools":
+                    self.assertLessEqual({alias.name for alias in node.names}, {"combinations"}, path)
+                elif isinstance(node, ast.ImportFrom):
                     self.assertEqual(node.level, 0, path)
                     package, _, module = node.module.partition(".")
                     self.assertEqual(package, "surelywhole", path)
@@ -103,9 +107,79 @@ class Rules(unittest.TestCase):
     def test_l5_what_sorted_min_and_max_take(self):
         for where, node in self.nodes(ast.Call):
             if isinstance(node.func, ast.Name) and node.func.id in ("sorted", "min", "max"):
-                [given] = node.args
-                self.assertIsInstance(given, ast.ListComp, where)
-                self.assertIn(given.elt.func.id, PLAIN, where)
+                if node.keywords:
+                    self.assertEqual([ast.unparse(keyword) for keyword in node.keywords], ["key=str"], where)
+                elif len(node.args) == 2:
+                    self.assertIn("len", [one.func.id for one in node.args if isinstance(one, ast.Call)], where)
+                else:
+                    [given] = node.args
+                    self.assertIsInstance(given, ast.ListComp, where)
+                    self.assertIn(given.elt.func.id, PLAIN, where)
+
+    def test_l5_operators_change_nothing(self):
+        """No function that an operator runs assigns an attribute or an item, but for the __init__ of a new object."""
+        defined, waiting = {}, []
+        for where, node in self.nodes(ast.FunctionDef):
+            defined.setdefault(node.name, []).append((where, node))
+            if node.name in OPERATORS:
+                waiting.append((where, node))
+        for where, node in self.nodes(ast.ClassDef):
+            starts = [item for item in node.body if isinstance(item, ast.FunctionDef) and item.name == "__init__"]
+            defined.setdefault(node.name, []).extend([(where, item) for item in starts])
+        seen = []
+        while waiting:
+            where, function = waiting.pop()
+            if function in seen:
+                continue
+            seen.append(function)
+            for node in ast.walk(function):
+                if isinstance(node, ast.Attribute) and not isinstance(node.ctx, ast.Load):
+                    self.assertEqual((function.name, ast.unparse(node.value)), ("__init__", "self"), where)
+                changed = node.value if isinstance(node, ast.Subscript) and not isinstance(node.ctx, ast.Load) else None
+                if isinstance(node, ast.Call) and isinstance(node.func, ast.Attribute) and node.func.attr in CHANGING:
+                    changed = node.func.value
+                if changed is not None:
+                    self.assertIn(ast.unparse(changed), self.created(function), where)
+                if isinstance(node, ast.AugAssign):
+                    self.assertIsInstance(node.value, ast.Constant, where)
+                if isinstance(node, ast.Call):
+                    name = node.func.id if isinstance(node.func, ast.Name) else node.func.attr
+                    waiting += defined.get(name, [])
+        self.assertGreater(len(seen), 30)
+
+    def created(self, function):
+        """The local variables that are only ever assigned a new list or dict."""
+        parameters = [one.arg for one in function.args.args]
+        given = {}
+        for node in ast.walk(function):
+            if isinstance(node, ast.Assign):
+                for target in node.targets:
+                    given.setdefault(ast.unparse(target), []).append(node.value)
+        new = (ast.List, ast.Dict, ast.ListComp, ast.DictComp)
+        return [
+            name for name, values in given.items() if name not in parameters and all(
+                isinstance(value, new) or ast.unparse(value).startswith(("list(", "dict(")) for value in values
+            )
+        ]
+
+    def test_l5_iteration_and_l6_with(self):
+        for where, node in self.nodes(ast.ClassDef):
+            named = {item.name: item for item in node.body if isinstance(item, ast.FunctionDef)}
+            if "__getitem__" in named:
+                self.assertIn("__iter__", named, where)
+            if "__iter__" in named:
+                [only] = named["__iter__"].body
+                self.assertRegex(ast.unparse(only), r"^return iter\(self\.\w+\)$", where)
+            if "__exit__" in named:
+                self.assertIn("__enter__", named, where)
+                self.assertEqual([one.arg for one in named["__exit__"].args.args], ["self", "kind", "value", "trace"], where)
+                for item in named["__exit__"].body:
+                    self.assertRegex(ast.unparse(item), r"^\w+(\.\w+)? = self\.\w+$", where)
+
+    def test_l2_products(self):
+        for where, node in self.nodes(ast.Call):
+            if isinstance(node.func, ast.Name) and node.func.id == "combinations":
+                self.assertRegex(ast.unparse(node), r"^combinations\(range\(len\(\w+\)\), size\)$", where)
 
     def test_l8_builtins(self):
         for path, tree in self.trees.items():
@@ -169,13 +243,32 @@ class Rules(unittest.TestCase):
 
 class Interface(unittest.TestCase):
 
+    def bodies(self, module):
+        tree = ast.parse((PACKAGE / f"{module}.py").read_text(encoding="utf-8"))
+        return {node.name: node for node in tree.body if isinstance(node, (ast.FunctionDef, ast.ClassDef))}
+
     def test_everything_stands_in_its_own_file(self):
         listed = {
             "errors": "WholeError UnknownTable Ring BadPart Unbound Clash NoPromise MayLack NotWhole",
             "schemas": "Table Schema",
             "questions": "Question Promise",
+            "books": "Book",
+            "deciding": "decide Derivation Pair parting supports weakest widest pair_lines",
+            "stores": "Store sure_with Desk",
         }
         for module, names in listed.items():
-            tree = ast.parse((PACKAGE / f"{module}.py").read_text(encoding="utf-8"))
-            defined = {node.name for node in tree.body if isinstance(node, (ast.FunctionDef, ast.ClassDef))}
-            self.assertLessEqual(set(names.split()), defined, module)
+            self.assertLessEqual(set(names.split()), set(self.bodies(module)), module)
+
+    def test_every_method_stands_in_its_own_class(self):
+        listed = {
+            ("schemas", "Schema"): "table holds",
+            ("questions", "Question"): "__le__ __and__",
+            ("questions", "Promise"): "__eq__ kept",
+            ("books", "Book"): "__contains__ __iter__ make withdraw __le__ __or__ __and__ held kept",
+            ("stores", "Store"): "__getitem__ __setitem__ __iter__ __contains__ answers sure total none",
+            ("stores", "Desk"): "watch is_whole make withdraw",
+        }
+        for (module, name), methods in listed.items():
+            body = self.bodies(module)[name].body
+            own = {node.name for node in body if isinstance(node, ast.FunctionDef)}
+            self.assertLessEqual({"__init__", *methods.split()}, own, name)
