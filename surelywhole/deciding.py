@@ -39,7 +39,8 @@ def decide(book, question):
     if root is not None:
         return Derivation(root)
     parts, head = smallest_unmet(claim, book.promises)
-    match = with_values(parts, [*words_of(question), *words_of_all(book.promises)])
+    words = [*words_of(question.parts, question.among), *words_of_all(book.promises)]
+    match = with_values(parts, words)
     rows = [turned(part, match) for part in parts]
     return pair_of(rows, book.promises, rows[:len(question.parts)], turned(head[:len(question.head)], match))
 
@@ -51,7 +52,7 @@ def parting(book, other):
         best = smallest_unmet(promise_claim(book.schema, promise), other.promises, best)
     if best is None:
         return None
-    match = with_values(best[0], words_of_all((*book.promises, *other.promises)))
+    match = with_values(best[0], words_of_all(other.promises))
     rows = [turned(part, match) for part in best[0]]
     return pair_of(rows, other.promises, rows[:1], None)
 
@@ -65,25 +66,19 @@ def pair_of(rows, promises, needed, answer):
 
 
 def with_values(parts, words):
-    """Return a match of the parts' variables to different values that are not among the words."""
+    """Return a match of the parts' variables to different values that are in none of these lists of words."""
     variables = once([term for part in parts for term in part[1:] if is_variable(term)])
     return dict(zip(variables, unused("v", len(variables), [*words, *parts])))
 
 
-def words_of(question):
-    """Return the lists of terms of a question."""
-    return [question.head, *question.parts, *[question.among[variable] for variable in question.among]]
+def words_of(parts, among):
+    """Return the lists of terms that stand in the parts and the conditions."""
+    return [*parts, *[among[variable] for variable in among]]
 
 
 def words_of_all(promises):
-    """Return the lists of terms of the promises."""
-    return [
-        words
-        for promise in promises
-        for words in [
-            promise.part, *promise.partners, *[promise.among[variable] for variable in promise.among]
-        ]
-    ]
+    """Return the lists of terms that stand in the promises."""
+    return [words for one in promises for words in words_of((one.part, *one.partners), one.among)]
 
 
 def supports(book, question):

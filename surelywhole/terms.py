@@ -23,7 +23,7 @@ def replaced(terms, variable, term):
 
 
 def once(things):
-    """Return the strings or tuples in a list, equal ones once."""
+    """Return the strings, numbers or tuples in a list, equal ones once."""
     return list({thing: True for thing in things})
 
 

@@ -3,6 +3,7 @@
 from surelywhole.claims import numbers_found
 from surelywhole.matching import numbers
 from surelywhole.steps import next_step, states_after
+from surelywhole.terms import once
 
 
 def tree(claim, promises, parts, head):
@@ -33,13 +34,13 @@ def with_nodes(step, nodes):
 
 def what_is_stored(found, promises, parts):
     """Return why the parts of these numbers are stored: promises, and the numbers of their matches."""
-    once = {at: True for at in found}
-    return tuple([why_stored(at, promises, parts) for at in once])
+    return tuple([why_stored(at, promises, parts) for at in once(found)])
 
 
 def why_stored(at, promises, parts):
     """Return the index of a promise that says the part, and the numbers of a match."""
     matches = [promise.match_for(parts[at], parts) for promise in promises]
-    index = [match is not None for match in matches].index(True)
+    says = [match is not None for match in matches]
+    index = says.index(True)
     promise = promises[index]
     return (index, numbers((promise.part, *promise.partners), parts, matches[index]))

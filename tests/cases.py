@@ -62,7 +62,7 @@ class Case:
     def make_question(self, many):
         parts = [self.make_part() for _ in range(many)]
         names = [term for part in parts for term in part[1:]] + ["a"]
-        head = [self.random.choice(names) for _ in range(self.random.choice((0, 1, 1, 2)))]
+        head = [self.random.choice(names) for _ in range(self.random.choice((0, 1, 1, 2, 4)))]
         among = self.some_among(parts, 0.15)
         return Question(self.schema, head, *parts, among=among, duplicates=self.random.random() < 0.5)
 

@@ -195,6 +195,11 @@ class Operators(unittest.TestCase):
         self.assertEqual(list(both), [pupils(), visits("a"), northern(), visits("b")])
         self.assertEqual(list(common), [pupils(), northern()])
 
+    def test_what_is_no_book(self):
+        for other in (3, [], None, list(self.one)):
+            with self.assertRaises(TypeError):
+                self.one <= other
+
     def test_the_comparison_leaves_both_as_they_were(self):
         self.assertIs(self.one <= self.two, False)
         self.assertIs(self.two <= self.one | self.two, True)

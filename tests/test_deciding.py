@@ -261,6 +261,38 @@ class NotWhole(Decided):
         pair = self.assert_not_whole(book, question, 1)
         self.assertEqual(pair.answer[1], "v4")
 
+    def test_new_values_meet_no_condition_of_the_question(self):
+        book = self.book((("s", "?x", "?y"), ("s", "?z", "?x")))
+        for at in range(3):
+            question = self.ask((), ("s", "?x", "?y"), ("s", "?y", "?y"), among={"?x": ("a", f"v{at}")})
+            self.assert_not_whole(book, question, 2)
+
+    def test_new_values_stand_in_no_promise(self):
+        for at in range(3):
+            for promise in (
+                ("s", f"v{at}", "?x"), ("s", "?x", f"v{at}"), (("s", "?x", "?y"), {"?y": (f"v{at}", "a")}),
+                (("s", "?x", "?y"), ("s", "?z", f"v{at}")), (("s", "?x", "?y"), ("s", "?z", "?x"), {"?z": (f"v{at}",)}),
+            ):
+                self.assert_not_whole(self.book(promise), self.ask((), ("s", "?x", "?y")), 1)
+
+    def test_new_values_are_no_values_of_lists(self):
+        schema = Schema(Table("q", 2, lists={1: ("v0", "v1")}))
+        book, question = Book(schema, Promise(schema, ("q", "?x", "?x"))), Question(schema, (), ("q", "?x", "?y"))
+        check_pair(book, question, decide(book, question))
+
+    def test_rows_that_would_agree_cannot_become_one(self):
+        schema = Schema(Table("p", 2, key=(0,), refers=((0, "q", 0),)), Table("q", 2))
+        question = Question(schema, (), ("p", "?x", "a"), ("p", "?y", "b"))
+        self.assertEqual(len(decide(Book(schema), question).world), 4)
+        question = Question(schema, (), ("p", "?x", "?z"), ("p", "?y", "?u"))
+        self.assertEqual(len(decide(Book(schema), question).world), 2)
+        book = Book(schema, Promise(schema, ("p", "?x", "?y"), ("q", "?z", "?y")))
+        for head in ((), ("?z", "?u")):
+            question = Question(schema, head, ("p", "?x", "?z"), ("p", "?y", "?u"), among={"?u": ("b",), "?z": ("a",)})
+            pair = decide(book, question)
+            check_pair(book, question, pair)
+            self.assertEqual(len(pair.world), 4)
+
     def test_with_duplicates_the_world_gives_the_answer_more_often(self):
         book = self.book((("s", "?x", "?y"), ("q", "?y", "a")), ("q", "?x", "?y"))
         question = self.ask(("?x",), ("s", "?x", "?y"), duplicates=True)

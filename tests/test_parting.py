@@ -127,6 +127,19 @@ class Follows(Parted):
         self.assert_parted(some, book((part, {"?y": ("a", "b")})), 1)
         self.assert_follows(book((("q", "?x", "?y"),)), book((("q", "?x", "?y"), {"?y": ("b", "c", "a")})))
 
+    def test_new_values_stand_in_no_promise(self):
+        part = ("s", "?x", "?y")
+        for at in range(3):
+            for other in (
+                (("s", f"v{at}", "?x"),), (part, {"?y": (f"v{at}", "a")}), (part, ("s", "?z", f"v{at}")),
+                (part, ("s", "?z", "?x"), {"?z": (f"v{at}",)}),
+            ):
+                self.assert_parted(book((part,)), book(other), 1)
+
+    def test_rows_that_would_agree_cannot_become_one(self):
+        schema = Schema(Table("p", 2, key=(0,), refers=((0, "q", 0),)), Table("q", 2))
+        self.assert_parted(book((("p", "?x", "a"), ("p", "?y", "b")), schema=schema), book(schema=schema), 4)
+
     def test_the_smallest_of_several_promises(self):
         other = book((("s", "?x", "?x"),))
         large, small = (("s", "?x", "?y"), ("p", "?y", "?z"), ("p", "?x", "?u")), (("s", "?x", "?y"), ("q", "?y", "?z"))
